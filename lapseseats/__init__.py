@@ -1,0 +1,1 @@
+"""Lapseseats: seats that are kept by words, and given up."""
