@@ -5,7 +5,7 @@ import unittest
 from lapseseats.days import Day
 from lapseseats.errors import InvalidDay, InvalidText
 from lapseseats.rules import Rule
-from tests.values import NO_INTEGERS, NO_SEQUENCES, NO_STRINGS
+from tests.helpers import NO_INTEGERS, NO_SEQUENCES, NO_STRINGS
 
 WORDS = ("borrow", "word", "back", "crash", "stop", "cut", "join")
 EVENTS = (("borrow", 0), ("cut", 0), ("pass",), ("pass",), ("borrow", 12), ("join", 0))

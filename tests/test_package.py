@@ -7,7 +7,7 @@ import pathlib
 import unittest
 
 import lapseseats
-from lapseseats import days, errors, rules
+from lapseseats import days, deciding, errors, forms, logs, plays, rules
 
 TOP = pathlib.Path(__file__).resolve().parent.parent
 FILES = sorted((TOP / "lapseseats").rglob("*.py"))
@@ -18,6 +18,26 @@ PARAMETERS = (
     (rules.Rule.but, "(self, word, number)"),
     (days.Day, "(events=())"),
     (days.Day.read, "(text)"),
+    (plays.play, "(rule, day)"),
+    (plays.possible, "(rule, day, event)"),
+    (deciding.most, "(rule, users)"),
+    (deciding.happens, "(rule, users, fault)"),
+    (deciding.faults, "(rule, users)"),
+    (deciding.least_events, "(rule, users, fault)"),
+    (deciding.day, "(rule, users, fault)"),
+    (deciding.longest_kept, "(rule)"),
+    (forms.per_seat, "(rule)"),
+    (forms.safe_lapse, "(rule)"),
+    (forms.safe_grace, "(rule)"),
+    (forms.fine_beats, "(rule, longest)"),
+    (forms.choices, "(rule, longest)"),
+    (forms.least_words, "(rule, span)"),
+    (forms.longest_alone, "(rule)"),
+    (logs.fits, "(rule, log)"),
+    (logs.first_misfit, "(rule, log)"),
+    (logs.can_use, "(rule, log, moment)"),
+    (logs.surely_use, "(rule, log, moment)"),
+    (logs.calm, "(rule, log, moment)"),
     (errors.InvalidRule, "(word)"),
     (errors.InvalidDay, "(at)"),
     (errors.InvalidText, "(at)"),
@@ -32,6 +52,17 @@ METHODS = (
     (days.Day, ("__init__", "read", "__len__", "__getitem__", "__add__", "__eq__", "__str__")),
 )
 
+MODULES = ("errors", "basics", "rules", "days", "plays", "deciding", "forms", "logs")
+
+DEFINED = {
+    "rules": ("Rule",),
+    "days": ("Day",),
+    "plays": ("play", "possible", "Played"),
+    "deciding": ("most", "happens", "faults", "least_events", "day", "longest_kept"),
+    "forms": ("per_seat", "safe_lapse", "safe_grace", "fine_beats", "choices", "least_words", "longest_alone"),
+    "logs": ("fits", "first_misfit", "can_use", "surely_use", "calm"),
+}
+
 
 class InterfaceTest(unittest.TestCase):
     def test_parameters(self):
@@ -43,9 +74,23 @@ class InterfaceTest(unittest.TestCase):
             for name in names:
                 self.assertIn(name, vars(owner))
 
-    def test_classes_are_defined_in_their_files(self):
-        self.assertEqual(rules.Rule.__module__, "lapseseats.rules")
-        self.assertEqual(days.Day.__module__, "lapseseats.days")
+    def test_functions_and_classes_are_defined_in_their_files(self):
+        for module in (rules, days, plays, deciding, forms, logs):
+            file = ast.parse(pathlib.Path(module.__file__).read_text())
+            defined = {node.name for node in file.body if isinstance(node, (ast.FunctionDef, ast.ClassDef))}
+            for name in DEFINED[module.__name__.split(".")[1]]:
+                self.assertIn(name, defined)
+                self.assertEqual(getattr(module, name).__module__, module.__name__)
+
+    def test_attributes_are_set_when_an_object_is_created(self):
+        told = plays.play(rules.Rule(1, 1, 1, 1), days.Day())
+        self.assertLessEqual({"using", "kept", "cut", "moment", "met", "peak"}, set(vars(told)))
+
+    def test_each_module_needs_only_earlier_ones(self):
+        for at, name in enumerate(MODULES):
+            file = ast.parse((TOP / "lapseseats" / f"{name}.py").read_text())
+            needed = {node.module for node in ast.walk(file) if isinstance(node, ast.ImportFrom)}
+            self.assertLessEqual(needed, {f"lapseseats.{other}" for other in MODULES[:at]}, name)
 
     def test_the_package_is_empty_but_for_a_docstring(self):
         tree = ast.parse((TOP / "lapseseats" / "__init__.py").read_text())

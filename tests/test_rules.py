@@ -5,7 +5,7 @@ import unittest
 from lapseseats.days import Day
 from lapseseats.errors import InvalidRule, InvalidText
 from lapseseats.rules import Rule
-from tests.values import NO_INTEGERS, NO_STRINGS
+from tests.helpers import NO_INTEGERS, NO_STRINGS
 
 WORDS = ("seats", "lapse", "beat", "grace", "late")
 LEAST = (1, 1, 1, 1, 0)
