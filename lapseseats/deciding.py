@@ -21,9 +21,14 @@ def can_be_silent(rule):
     return rule.lapse <= rule.beat + rule.late
 
 
+def most_of_all(rule):
+    """The greatest number of users who use at once in some day, however many there are."""
+    return rule.seats * most_at_one_seat(rule)
+
+
 def most(rule, users):
     """The greatest number of users below this one who use at once in some day."""
-    return min(users, rule.seats * most_at_one_seat(rule))
+    return min(users, most_of_all(rule))
 
 
 def silent_borrow(rule):

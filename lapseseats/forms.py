@@ -1,6 +1,6 @@
 """Which numbers a rule should have: lapses, graces and beats that are safe, and how few words are needed."""
 
-from lapseseats.deciding import happens, most_at_one_seat
+from lapseseats.deciding import can_share, most_at_one_seat
 
 
 def per_seat(rule):
@@ -26,19 +26,23 @@ def safe_grace(rule):
 
 def fine_beats(rule, longest):
     """The ascending tuple of the beats up to the longest one with which no seat is taken from a user."""
-    beats = range(1, longest + 1)
-    # Whether a seat is taken does not depend on how many users there are.
-    return tuple([beat for beat in beats if not happens(rule.but("beat", beat), 1, "taken")])
+    if can_share(rule):
+        # A user must say a word ahead of the lapse, even if its clock is late.
+        longest = min(longest, rule.lapse - rule.late - 1)
+    return tuple(range(1, longest + 1))
 
 
 def choices(rule, longest):
     """The ascending tuple of the pairs (lapse, per seat), up to the longest lapse, that are beaten by none."""
     found = []
-    for lapse in range(1, longest + 1):
+    lapse = 1
+    while lapse <= longest:
         many = per_seat(rule.but("lapse", lapse))
-        # A greater lapse never has more per seat: so the last one that was found has the fewest so far.
-        if not found or many < found[-1][1]:
-            found.append((lapse, many))
+        found.append((lapse, many))
+        if many == 1:
+            break
+        # The next one with fewer is the least lapse of which many - 1 do not fit into the longest time alone.
+        lapse = longest_alone(rule) // (many - 1) + 1
     return tuple(found)
 
 

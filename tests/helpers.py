@@ -5,8 +5,35 @@ searches go through all days, so that they can tell whether what the package dec
 """
 
 from lapseseats.days import Day
+from lapseseats.desk import Desk
 from lapseseats.errors import InvalidFault
+from lapseseats.live import Live
+from lapseseats.plays import play
 from lapseseats.rules import Rule
+
+
+def used_live():
+    """A live house with a deed that can be taken back, so that its length is not 0."""
+    live = Live(Rule(1, 1, 1, 1))
+    live.do(("borrow", 0))
+    return live
+
+
+def used_desk():
+    desk = Desk()
+    desk.say("borrow 0")
+    return desk
+
+
+# Objects that change, and others that are neither compared nor iterable. No test changes these.
+OBJECTS = (
+    Live(Rule(1, 1, 1, 1)),
+    used_live(),
+    used_live().trial(),
+    Desk(),
+    used_desk(),
+    play(Rule(1, 1, 1, 1), Day()),
+)
 
 NO_INTEGERS = (
     True,
@@ -24,6 +51,8 @@ NO_INTEGERS = (
     Day(),
     Day([("pass",)]),
     InvalidFault(),
+    *OBJECTS,
+    [OBJECTS],
 )
 
 NO_STRINGS = (
@@ -42,6 +71,7 @@ NO_STRINGS = (
     Rule(1, 1, 1, 1),
     Day(),
     Day([("pass",)]),
+    *OBJECTS,
 )
 
 NO_SEQUENCES = (
@@ -56,6 +86,39 @@ NO_SEQUENCES = (
     Rule(1, 1, 1, 1),
     Day(),
     Day([("pass",)]),
+    *OBJECTS,
+)
+
+NO_EVENTS = (
+    *NO_INTEGERS,
+    *NO_SEQUENCES,
+    ("pass", 0),
+    ("pass", "pass"),
+    ["pass"],
+    "borrow 0",
+    ["borrow", 0],
+    ("borrow",),
+    ("borrow", 0, 0),
+    ("borrow", -1),
+    ("borrow", True),
+    ("borrow", None),
+    ("borrow", "0"),
+    ("borrow", [0]),
+    ("borrow", (0,)),
+    ("cut", Rule(1, 1, 1, 1)),
+    ("Borrow", 0),
+    ("say", 0),
+    ("", 0),
+    (None, 0),
+    (["borrow"], 0),
+    (("borrow",), 0),
+    (0, "borrow"),
+    (0, 0),
+    ("cut", 0.0),
+    (((((((("pass",),),),),),),),),
+    [[[[[[[["pass"]]]]]]]],
+    -1,
+    10 ** 30,
 )
 
 FAULTS = ("over", "taken", "twice", "waits")

@@ -4,6 +4,7 @@ import doctest
 import unittest
 
 # Section 6 has no example of its own; the one of section 1 is about it. Sections 5 and 7 go on with its rule.
+# Sections 10 and 11 have none either.
 EXAMPLES = '''
 1. Overview
 
@@ -37,6 +38,19 @@ EXAMPLES = '''
     >>> book = [(0, "borrow", 0), (1, "borrow", 1), (2, "word", 0), (5, "borrow", 2), (6, "back", 2)]
     >>> fits(rule, book), can_use(rule, book, 5), surely_use(rule, book, 1), surely_use(rule, book, 5), calm(rule, book, 5), first_misfit(rule, [(0, "word", 0)])
     (True, (0, 1, 2), (0,), (2,), False, 0)
+
+9. Two sites
+
+    >>> from lapseseats.splits import best_splits, unserved
+    >>> unserved(4, 1, [(3, 1), (0, 4)]), best_splits(4, [(3, 1), (0, 4)])
+    (2, (1, 2))
+
+12. Desks
+
+    >>> from lapseseats.desk import Desk
+    >>> desk = Desk()
+    >>> [desk.say(word) for word in ("rule 1 2 1 3 0", "borrow 0", "cut 0", "pass", "pass", "borrow 1", "using", "safe", "undo")]
+    ['2', 'calm', 'calm', 'calm', 'calm', 'over twice', '0 1', '4', 'undone']
 '''
 
 
@@ -44,7 +58,7 @@ class ExamplesTest(unittest.TestCase):
     def test_examples(self):
         test = doctest.DocTestParser().get_doctest(EXAMPLES, {}, "DOC.md", None, 0)
         told = doctest.DocTestRunner().run(test)
-        self.assertEqual(told.attempted, 16)
+        self.assertEqual(told.attempted, 21)
         self.assertEqual(told.failed, 0)
 
 

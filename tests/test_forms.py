@@ -114,6 +114,16 @@ class BeatsTest(unittest.TestCase):
         self.assertEqual(fine_beats(GREAT.but("late", 0), 60), tuple(range(1, 61)))
         self.assertEqual(fine_beats(GREAT.but("late", MILLION - 5), 60), (1, 2, 3, 4))
 
+    def test_longest_as_great_as_what_was_returned(self):
+        self.assertEqual(fine_beats(GREAT, safe_lapse(GREAT)), ())
+        self.assertEqual(fine_beats(GREAT.but("late", 0), safe_lapse(GREAT)), tuple(range(1, MILLION)))
+        rule = GREAT.but("lapse", safe_lapse(GREAT))
+        self.assertEqual(fine_beats(rule, safe_lapse(GREAT)), tuple(range(1, 2 * MILLION + 2)))
+
+    def test_no_beats(self):
+        for rule in (RULE, RULE.but("lapse", 9)):
+            self.assertEqual(fine_beats(rule, 0), ())
+
 
 class ChoicesTest(unittest.TestCase):
     def test_ordinary(self):
@@ -140,6 +150,19 @@ class ChoicesTest(unittest.TestCase):
     def test_great_numbers(self):
         expected = tuple((lapse, 2 * MILLION // lapse + 1) for lapse in range(1, 61))
         self.assertEqual(choices(GREAT, 60), expected)
+
+    def test_longest_as_great_as_what_was_returned(self):
+        found = choices(GREAT, safe_lapse(GREAT))
+        self.assertEqual(found[:60], choices(GREAT, 60))
+        self.assertEqual(found[-3:], ((666667, 3), (1000001, 2), (2000001, 1)))
+        self.assertEqual(choices(GREAT, safe_lapse(GREAT) - 1), found[:-1])
+        # Ahead of each lapse, the one below has more per seat, as many as the one found before.
+        for (_, ahead), (lapse, many) in zip(found, found[1:]):
+            self.assertEqual(per_seat(GREAT.but("lapse", lapse - 1)), ahead)
+            self.assertLess(many, ahead)
+
+    def test_no_lapses(self):
+        self.assertEqual(choices(RULE, 0), ())
 
     def test_results_are_tuples(self):
         found = choices(RULE, 3)

@@ -7,7 +7,7 @@ import pathlib
 import unittest
 
 import lapseseats
-from lapseseats import days, deciding, errors, forms, logs, plays, rules
+from lapseseats import comparing, days, deciding, desk, errors, forms, live, logs, plays, rules, splits
 
 TOP = pathlib.Path(__file__).resolve().parent.parent
 FILES = sorted((TOP / "lapseseats").rglob("*.py"))
@@ -38,6 +38,20 @@ PARAMETERS = (
     (logs.can_use, "(rule, log, moment)"),
     (logs.surely_use, "(rule, log, moment)"),
     (logs.calm, "(rule, log, moment)"),
+    (splits.unserved, "(seats, here, wishes)"),
+    (splits.best_splits, "(seats, wishes)"),
+    (comparing.no_more, "(p, q)"),
+    (comparing.beats, "(p, q)"),
+    (comparing.best_of, "(rules)"),
+    (live.Live, "(rule)"),
+    (live.Live.do, "(self, event)"),
+    (live.Live.several, "(self, events)"),
+    (live.Live.follow, "(self, rule)"),
+    (live.Live.undo, "(self)"),
+    (live.Live.trial, "(self)"),
+    (live.Live.within, "(self, work)"),
+    (desk.Desk, "()"),
+    (desk.Desk.say, "(self, command)"),
     (errors.InvalidRule, "(word)"),
     (errors.InvalidDay, "(at)"),
     (errors.InvalidText, "(at)"),
@@ -50,17 +64,28 @@ PARAMETERS = (
 METHODS = (
     (rules.Rule, ("__init__", "read", "but", "__eq__", "__str__")),
     (days.Day, ("__init__", "read", "__len__", "__getitem__", "__add__", "__eq__", "__str__")),
+    (live.Live, ("__init__", "do", "several", "follow", "undo", "trial", "within", "__len__")),
+    (desk.Desk, ("__init__", "say", "__len__")),
 )
 
-MODULES = ("errors", "basics", "rules", "days", "plays", "deciding", "forms", "logs")
+MODULES = (
+    "errors", "basics", "rules", "days", "plays", "deciding", "forms", "logs", "splits", "comparing", "live", "desk",
+)
 
 DEFINED = {
+    "errors": (
+        "SeatError", "InvalidRule", "InvalidDay", "InvalidText", "InvalidFault", "InvalidLog", "InvalidCommand", "Refused",
+    ),
     "rules": ("Rule",),
     "days": ("Day",),
     "plays": ("play", "possible", "Played"),
     "deciding": ("most", "happens", "faults", "least_events", "day", "longest_kept"),
     "forms": ("per_seat", "safe_lapse", "safe_grace", "fine_beats", "choices", "least_words", "longest_alone"),
     "logs": ("fits", "first_misfit", "can_use", "surely_use", "calm"),
+    "splits": ("unserved", "best_splits"),
+    "comparing": ("no_more", "beats", "best_of"),
+    "live": ("Live",),
+    "desk": ("Desk",),
 }
 
 
@@ -75,7 +100,7 @@ class InterfaceTest(unittest.TestCase):
                 self.assertIn(name, vars(owner))
 
     def test_functions_and_classes_are_defined_in_their_files(self):
-        for module in (rules, days, plays, deciding, forms, logs):
+        for module in (errors, rules, days, plays, deciding, forms, logs, splits, comparing, live, desk):
             file = ast.parse(pathlib.Path(module.__file__).read_text())
             defined = {node.name for node in file.body if isinstance(node, (ast.FunctionDef, ast.ClassDef))}
             for name in DEFINED[module.__name__.split(".")[1]]:
@@ -85,12 +110,16 @@ class InterfaceTest(unittest.TestCase):
     def test_attributes_are_set_when_an_object_is_created(self):
         told = plays.play(rules.Rule(1, 1, 1, 1), days.Day())
         self.assertLessEqual({"using", "kept", "cut", "moment", "met", "peak"}, set(vars(told)))
+        self.assertLessEqual({"rule", "day", "played"}, set(vars(live.Live(rules.Rule(1, 1, 1, 1)))))
 
     def test_each_module_needs_only_earlier_ones(self):
         for at, name in enumerate(MODULES):
             file = ast.parse((TOP / "lapseseats" / f"{name}.py").read_text())
             needed = {node.module for node in ast.walk(file) if isinstance(node, ast.ImportFrom)}
             self.assertLessEqual(needed, {f"lapseseats.{other}" for other in MODULES[:at]}, name)
+
+    def test_all_modules_are_in_that_order(self):
+        self.assertEqual(sorted(path.stem for path in FILES), sorted(("__init__", *MODULES)))
 
     def test_the_package_is_empty_but_for_a_docstring(self):
         tree = ast.parse((TOP / "lapseseats" / "__init__.py").read_text())

@@ -8,43 +8,11 @@ from lapseseats.errors import InvalidDay
 from lapseseats.plays import Played, play, possible
 from lapseseats.rules import Rule
 from tests.helpers import (
-    FAULTS, NO_INTEGERS, NO_SEQUENCES, PASS, USER_WORDS, all_events, start, step,
+    FAULTS, NO_EVENTS, PASS, USER_WORDS, all_events, start, step,
 )
 
 RULE = Rule(2, 3, 2, 5, 1)
 WIDE = Rule(3, 9, 9, 9, 9)
-
-NO_EVENTS = (
-    *NO_INTEGERS,
-    *NO_SEQUENCES,
-    ("pass", 0),
-    ("pass", "pass"),
-    ["pass"],
-    "borrow 0",
-    ["borrow", 0],
-    ("borrow",),
-    ("borrow", 0, 0),
-    ("borrow", -1),
-    ("borrow", True),
-    ("borrow", None),
-    ("borrow", "0"),
-    ("borrow", [0]),
-    ("borrow", (0,)),
-    ("cut", Rule(1, 1, 1, 1)),
-    ("Borrow", 0),
-    ("say", 0),
-    ("", 0),
-    (None, 0),
-    (["borrow"], 0),
-    (("borrow",), 0),
-    (0, "borrow"),
-    (0, 0),
-    ("cut", 0.0),
-    (((((((("pass",),),),),),),),),
-    [[[[[[[["pass"]]]]]]]],
-    -1,
-    10 ** 30,
-)
 
 
 def told_of(rule, text):
