@@ -119,6 +119,16 @@ class BestSplitsTest(unittest.TestCase):
             for seats in (0, 1, 2, 5, 9):
                 self.assertEqual(best_splits(seats, pairs), best_by_trying(seats, pairs))
 
+    def test_all_of_two_small_pairs(self):
+        pairs = list(itertools.product(range(4), range(4)))
+        for seats, wishes in itertools.product(range(5), itertools.combinations(pairs, 2)):
+            self.assertEqual(best_splits(seats, wishes), best_by_trying(seats, wishes), (seats, wishes))
+
+    def test_many_more_seats_than_wishes(self):
+        self.assertEqual(best_splits(2000001, [(9, 0), (0, 7), (5, 5)]), tuple(range(9, 2000001 - 7 + 1)))
+        self.assertEqual(best_splits(9, [(2000001, 9), (9, 2000001)]), tuple(range(10)))
+        self.assertEqual(best_splits(9, [(2000001, 0), (0, 1999998)]), (6,))
+
     def test_they_are_least_by_unserved(self):
         for pairs in some_wishes():
             told = [unserved(9, here, pairs) for here in range(10)]
